@@ -1,0 +1,1 @@
+"""Askedpairs: pairs asked with chances."""

@@ -1,0 +1,173 @@
+"""What the tests share: webs, wrong things, and the document's words reckoned plainly."""
+
+import copy
+import math
+import random
+from fractions import Fraction
+
+BIG = 10 ** 59 + 7
+
+
+def nested(depth):
+    thing = ()
+    for at in range(depth):
+        thing = (thing,) if at % 2 else [thing]
+    return thing
+
+
+ANYTHING = [
+    None, True, False, 0, 1, 2, -1, -2, 3, 11, 12, 13, 100, BIG, -BIG, "", "0", "sides", "a b\nc~" * 300,
+    (), [], {}, (0,), (1,), (-1,), (True,), (None,), ("",), [0], [(0, 1)], {0: 1}, {"a": (0, 1)},
+    (0, 1), (1, 1), (1, 2), (2, 4), (0, 2), (1, 0), (1, -2), (-1, 2), (True, 1), (1, True), (False, True),
+    [1, 2], (BIG, BIG + 1), ((0, 1),), ((1, 1),), ((), ()), [(), ()], ((), []), ([], ()), ((), (), ()),
+    ((0,), ()), ((), (0,)), ((0,), (0, 1)), ((0, -1, -1),), [(0, -1, -1)], ((0, -1), (0, -1)), "()",
+    (None, None), (None, None, None), (None, None, None, None), ("", "", "", ""), ({}, {}, {}, {}),
+    (0, (), (), 0), [0, (), (), 0], (0, (), (), 0, 0), (0, (), ()), {0: 0, 1: (), 2: (), 3: 0},
+    (1, 1, 1, 1), ("0000"), nested(20), tuple(range(20000)), list(range(20000)), ((0, 1),) * 5000,
+    tuple([None] * 300), dict([(at, at) for at in range(9000)]), (0,) * 20000,
+]
+
+PARTS = [None, True, False, -1, -2, 0, 1, 2, 3, 7, 301, BIG, -BIG, "", "1", "no", (), (0,), (0, 1), (2, 2),
+         [], [0], [0, 1], {}, {0: 1}]
+
+
+def changed_here(thing):
+    """The thing itself put otherwise: another part, another kind of row, parts left out, put in, turned about."""
+    for part in PARTS:
+        yield part
+    if type(thing) is int:
+        yield thing + 1
+        yield thing - 1
+        yield -thing
+        yield str(thing)
+        yield (thing,)
+    if type(thing) is tuple:
+        yield list(thing)
+        yield dict(enumerate(thing))
+        yield thing[::-1]
+        yield (thing,)
+        yield thing + thing
+        for at in range(len(thing)):
+            yield thing[:at] + thing[at + 1:]
+            yield thing[:at + 1] + thing[at:]
+        for at in range(len(thing) + 1):
+            for part in (None, True, 0, 1, -1, (0, 1), "x", [], {}):
+                yield thing[:at] + (part,) + thing[at:]
+    if type(thing) is tuple and len(thing) == 2 and type(thing[0]) is int and type(thing[1]) is int:
+        yield (2 * thing[0], 2 * thing[1])
+        yield (-thing[0], -thing[1])
+        yield (thing[0], thing[0])
+
+
+def changed(thing):
+    """Whatever comes of the thing by a change at one of its places, at any depth."""
+    for other in changed_here(thing):
+        yield other
+    if type(thing) is tuple:
+        for at in range(len(thing)):
+            for other in changed(thing[at]):
+                yield thing[:at] + (other,) + thing[at + 1:]
+
+
+def look_over(test, checker, good, by_words):
+    """The checker tells just what the words tell, of anything, of the good things and of them changed."""
+    things = list(ANYTHING)
+    for thing in good:
+        test.assertIs(by_words(thing), True, thing)
+        things.append(thing)
+        things.extend(changed(thing))
+    for thing in things:
+        before = copy.deepcopy(thing)
+        told = checker(thing)
+        test.assertIs(told, by_words(thing), repr(thing)[:300])
+        test.assertIs(checker(thing), told)
+        test.assertEqual(repr(thing), repr(before))
+
+
+def same(one, other):
+    """Alike in kind too: to Python True is 1."""
+    return repr(one) == repr(other)
+
+
+def is_int(thing, low, high):
+    return type(thing) is int and low <= thing <= high
+
+
+def is_row(thing):
+    return type(thing) is tuple
+
+
+def fraction_by_words(thing):
+    return (is_row(thing) and len(thing) == 2 and type(thing[0]) is int and type(thing[1]) is int
+            and thing[1] >= 1 and math.gcd(thing[0], thing[1]) == 1)
+
+
+def pair_of(value):
+    """A Fraction as the program tells it."""
+    value = Fraction(value)
+    return (value.numerator, value.denominator)
+
+
+def rising_by_words(thing, many):
+    return (is_row(thing) and all(is_int(part, 0, many - 1) for part in thing)
+            and list(thing) == sorted(set(thing)))
+
+
+def tie_by_words(thing, things):
+    return (is_row(thing) and len(thing) == 4 and is_int(thing[0], 0, things - 1)
+            and is_int(thing[1], 0, things - 1) and thing[0] < thing[1] and fraction_by_words(thing[2])
+            and thing[2][1] <= 100 and 0 <= Fraction(*thing[2]) <= 1 and is_int(thing[3], 0, 1000))
+
+
+def web_by_words(thing):
+    return (is_row(thing) and len(thing) == 4 and is_int(thing[0], 0, 12)
+            and is_row(thing[1]) and len(thing[1]) <= 16 and all(tie_by_words(tie, thing[0]) for tie in thing[1])
+            and is_row(thing[2]) and len(thing[2]) == thing[0] and all(is_int(part, 0, 20) for part in thing[2])
+            and is_int(thing[3], 0, 40))
+
+
+def asks_by_words(web, asked, thing):
+    return sum(1 for tie in asked if web[1][tie][0] == thing or web[1][tie][1] == thing)
+
+
+def stand_by_words(web, thing):
+    if not (is_row(thing) and len(thing) == 2 and rising_by_words(thing[0], len(web[1]))
+            and rising_by_words(thing[1], web[0])):
+        return False
+    asked, taken = thing
+    return (all(asks_by_words(web, asked, at) <= web[2][at] for at in range(web[0])) and len(asked) <= web[3]
+            and len(taken) in (0, 2, 4, 6, 8, 10, 12) and all(asks_by_words(web, asked, at) for at in taken))
+
+
+def may_by_words(web, stand, tie):
+    asked, taken = stand
+    one, other = web[1][tie][0], web[1][tie][1]
+    return (tie not in asked and one not in taken and other not in taken
+            and asks_by_words(web, asked, one) < web[2][one] and asks_by_words(web, asked, other) < web[2][other]
+            and len(asked) < web[3])
+
+
+CHANCES = [(0, 1), (1, 1), (1, 2), (1, 3), (2, 3), (3, 4), (1, 100), (99, 100), (37, 97)]
+
+
+def random_web(rng, most_things=6, most_ties=6, most_patience=4):
+    things = rng.randint(2, most_things)
+    ties = []
+    for at in range(rng.randint(0, most_ties)):
+        one, other = sorted(rng.sample(range(things), 2))
+        ties.append((one, other, rng.choice(CHANCES), rng.choice([0, 1, 2, 5, 10, 999, 1000])))
+    patience = tuple(rng.randint(0, most_patience) for at in range(things))
+    return (things, tuple(ties), patience, rng.randint(0, most_ties + 1))
+
+
+def random_webs(seed, many, most_things=6, most_ties=6, most_patience=4):
+    rng = random.Random(seed)
+    return [random_web(rng, most_things, most_ties, most_patience) for at in range(many)]
+
+
+# A triangle with a tail, its first tie there twice.
+WEB = (4, ((0, 1, (1, 2), 10), (1, 2, (1, 3), 20), (0, 2, (3, 4), 5), (2, 3, (1, 1), 7), (0, 1, (0, 1), 1000)),
+       (2, 3, 2, 1), 4)
+EMPTY = (0, (), (), 0)
+# Every number at its greatest.
+GREAT = (12, tuple((at % 11, 11, (99, 100), 1000) for at in range(16)), (20,) * 12, 40)
