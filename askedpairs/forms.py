@@ -42,3 +42,8 @@ def is_fraction(thing):
     if not is_number(top) or not is_number(bottom) or bottom < 1:
         return False
     return lowest(top, bottom) == thing
+
+
+def is_fraction_row(thing, many):
+    """Tell whether it is a row of so many fractions."""
+    return is_row_of(thing, many) and all([is_fraction(part) for part in thing])

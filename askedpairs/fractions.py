@@ -1,5 +1,8 @@
 """Fractions: (top, bottom), ints in lowest terms, the bottom from 1 on."""
 
+ZERO = (0, 1)
+ONE = (1, 1)
+
 
 def common_divisor(one, other):
     """Tell the greatest common divisor of two ints, from 0 on."""
@@ -30,3 +33,8 @@ def times(one, other):
 def less(one, other):
     """Tell whether the first fraction is less than the second."""
     return one[0] * other[1] < other[0] * one[1]
+
+
+def one_less(chance):
+    """Tell one less the chance."""
+    return lowest(chance[1] - chance[0], chance[1])

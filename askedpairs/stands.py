@@ -2,6 +2,8 @@
 
 from askedpairs.forms import is_rising_row, is_row_of
 
+FIRST_STAND = ((), ())
+
 
 def things_of(web, tie):
     """Tell both things of a tie."""

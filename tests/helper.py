@@ -1,6 +1,7 @@
 """What the tests share: webs, wrong things, and the document's words reckoned plainly."""
 
 import copy
+import itertools
 import math
 import random
 from fractions import Fraction
@@ -84,6 +85,19 @@ def look_over(test, checker, good, by_words):
         test.assertEqual(repr(thing), repr(before))
 
 
+def look_over_run(test, web, run):
+    """No tie asked twice, no taken thing, no thing above its patience, no more than there are asks in all."""
+    ties = [tie for tie, truth in run]
+    test.assertEqual(len(ties), len(set(ties)))
+    test.assertLessEqual(len(ties), web[3])
+    for thing in range(web[0]):
+        test.assertLessEqual(asks_by_words(web, ties, thing), web[2][thing])
+    taken = set()
+    for tie, truth in run:
+        test.assertFalse(taken & set(web[1][tie][:2]))
+        taken |= set(web[1][tie][:2]) if truth else set()
+
+
 def same(one, other):
     """Alike in kind too: to Python True is 1."""
     return repr(one) == repr(other)
@@ -147,6 +161,98 @@ def may_by_words(web, stand, tie):
             and len(asked) < web[3])
 
 
+def run_by_words(web, order, answers):
+    """The asks of an order, by what each thing has borne so far."""
+    left, taken, run = dict(enumerate(web[2])), set(), []
+    for tie in order:
+        one, other = web[1][tie][0], web[1][tie][1]
+        if left[one] > 0 and left[other] > 0 and not {one, other} & taken and len(run) < web[3]:
+            run.append((tie, answers[tie]))
+            left[one] -= 1
+            left[other] -= 1
+            taken |= {one, other} if answers[tie] else set()
+    return tuple(run)
+
+
+def tree_form_by_words(web, thing):
+    if not is_row(thing) or len(thing) > 300:
+        return False
+    told = []
+    for at, node in enumerate(thing):
+        if not (is_row(node) and len(node) == 3 and is_int(node[0], 0, len(web[1]) - 1)):
+            return False
+        for link in node[1:]:
+            if type(link) is not int or not (link == -1 or link in range(at + 1, len(thing))):
+                return False
+            told.append(link)
+    return all(told.count(at) == 1 for at in range(1, len(thing)))
+
+
+def stands_by_words(web, tree):
+    """Each node's stand, by the way that leads to it from the beginning."""
+    stands = []
+    for at in range(len(tree)):
+        asked, taken = [], []
+        while at != 0:
+            told_by = [way for way, node in enumerate(tree) if at in node[1:]][0]
+            tie = tree[told_by][0]
+            asked.append(tie)
+            taken.extend(web[1][tie][:2] if tree[told_by][1] == at else ())
+            at = told_by
+        stands.append((tuple(sorted(asked)), tuple(sorted(taken))))
+    return tuple(stands)
+
+
+def tree_by_words(web, thing):
+    if not tree_form_by_words(web, thing):
+        return False
+    return all(may_by_words(web, stand, node[0]) for node, stand in zip(thing, stands_by_words(web, thing)))
+
+
+def tree_run_by_words(tree, answers, at=0):
+    if at == -1 or not tree:
+        return ()
+    tie, yes, no = tree[at]
+    return ((tie, answers[tie]),) + tree_run_by_words(tree, answers, yes if answers[tie] else no)
+
+
+def worth_by_words(web, tree, at):
+    """A node's worth, by what the document says of it."""
+    if at == -1:
+        return Fraction(0)
+    tie, yes, no = tree[at]
+    chance, worth = Fraction(*web[1][tie][2]), web[1][tie][3]
+    return chance * (worth + worth_by_words(web, tree, yes)) + (1 - chance) * worth_by_words(web, tree, no)
+
+
+def reach_by_words(web, tree, at):
+    if at == 0:
+        return Fraction(1)
+    for way, (tie, yes, no) in enumerate(tree):
+        chance = Fraction(*web[1][tie][2])
+        if at in (yes, no):
+            return reach_by_words(web, tree, way) * (chance if at == yes else 1 - chance)
+
+
+def worths_by_words(web, tree):
+    return tuple(pair_of(worth_by_words(web, tree, at)) for at in range(len(tree)))
+
+
+def reaches_by_words(web, tree):
+    return tuple(pair_of(reach_by_words(web, tree, at)) for at in range(len(tree)))
+
+
+def chance_by_words(web, answers):
+    product = Fraction(1)
+    for at, truth in enumerate(answers):
+        product *= Fraction(*web[1][at][2]) if truth else 1 - Fraction(*web[1][at][2])
+    return product
+
+
+def rows_of_answers(web):
+    return list(itertools.product((True, False), repeat=len(web[1])))
+
+
 CHANCES = [(0, 1), (1, 1), (1, 2), (1, 3), (2, 3), (3, 4), (1, 100), (99, 100), (37, 97)]
 
 
@@ -165,9 +271,38 @@ def random_webs(seed, many, most_things=6, most_ties=6, most_patience=4):
     return [random_web(rng, most_things, most_ties, most_patience) for at in range(many)]
 
 
+def grow_tree(rng, web, most):
+    """A tree of at most so many nodes, grown anywhere, so numbered in any way that goes upward."""
+    nodes, open_ends = [], [(None, None, ((), ()))]
+    while open_ends and len(nodes) < most:
+        told_by, truth, stand = open_ends.pop(rng.randrange(len(open_ends)))
+        ties = [tie for tie in range(len(web[1])) if may_by_words(web, stand, tie)]
+        if ties:
+            tie = rng.choice(ties)
+            if told_by is not None:
+                nodes[told_by][1 if truth else 2] = len(nodes)
+            asked = tuple(sorted(stand[0] + (tie,)))
+            open_ends.append((len(nodes), True, (asked, tuple(sorted(stand[1] + web[1][tie][:2])))))
+            open_ends.append((len(nodes), False, (asked, stand[1])))
+            nodes.append([tie, -1, -1])
+    return tuple(tuple(node) for node in nodes)
+
+
+def webs_and_trees(seed, many, most_nodes=12, most_things=6, most_ties=6):
+    rng = random.Random(seed)
+    told = []
+    for web in random_webs(seed, many, most_things, most_ties):
+        told.append((web, grow_tree(rng, web, rng.randint(0, most_nodes))))
+    return told
+
+
 # A triangle with a tail, its first tie there twice.
 WEB = (4, ((0, 1, (1, 2), 10), (1, 2, (1, 3), 20), (0, 2, (3, 4), 5), (2, 3, (1, 1), 7), (0, 1, (0, 1), 1000)),
        (2, 3, 2, 1), 4)
 EMPTY = (0, (), (), 0)
 # Every number at its greatest.
 GREAT = (12, tuple((at % 11, 11, (99, 100), 1000) for at in range(16)), (20,) * 12, 40)
+# Six pairs apart, most of them with three ties: trees of it may have a great many nodes.
+WIDE = (12, tuple((2 * (at % 6), 2 * (at % 6) + 1, CHANCES[at % 9], at) for at in range(16)), (20,) * 12, 40)
+# A tree of WEB that asks ties of chance 0 and 1, its nodes numbered across.
+TREE = ((0, 2, 1), (1, -1, 3), (3, -1, -1), (4, 4, 5), (3, -1, -1), (3, -1, -1))

@@ -3,7 +3,7 @@ import random
 import unittest
 
 from askedpairs.stands import is_stand, may_ask, stand_behind
-from tests.helper import (EMPTY, GREAT, WEB, asks_by_words, look_over, may_by_words, random_webs, same,
+from tests.helper import (EMPTY, GREAT, WEB, look_over, look_over_run, may_by_words, random_webs, same,
                           stand_by_words)
 
 FIRST = ((), ())
@@ -174,12 +174,8 @@ class NothingTwice(unittest.TestCase):
                 self.assertIs(is_stand(web, stand), True)
                 ties = [tie for tie, truth in run]
                 taken = [thing for tie, truth in run if truth for thing in web[1][tie][:2]]
-                self.assertEqual(len(ties), len(set(ties)))
-                self.assertEqual(len(taken), len(set(taken)))
                 self.assertEqual(stand, (tuple(sorted(ties)), tuple(sorted(taken))))
-                self.assertLessEqual(len(ties), web[3])
-                for thing in range(web[0]):
-                    self.assertLessEqual(asks_by_words(web, ties, thing), web[2][thing])
+                look_over_run(self, web, run)
 
     def test_asks_by_may_ask_alone_stay_stands(self):
         rng = random.Random(65)

@@ -1,0 +1,36 @@
+"""A tree's worth by all rows of answers."""
+
+from askedpairs.errors import TooMany
+from askedpairs.fractions import ONE, ZERO, one_less, plus, times
+from askedpairs.runs import worth_kept
+from askedpairs.trees import run_tree
+
+MOST_TIES_BY_ANSWERS = 10
+
+
+def chance_of(web, answers):
+    """Tell the chance of a row of answers."""
+    product = ONE
+    for tie, truth in zip(web[1], answers):
+        product = times(product, tie[2] if truth else one_less(tie[2]))
+    return product
+
+
+def all_answers(many):
+    """Tell all rows of so many answers."""
+    rows = [()]
+    for at in range(many):
+        rows = [row + (truth,) for row in rows for truth in (True, False)]
+    return rows
+
+
+def by_answers(web, tree):
+    """Tell the average, over all rows of answers, of what the tree keeps."""
+    many = len(web[1])
+    if many > MOST_TIES_BY_ANSWERS:
+        raise TooMany(f"{many} ties are more than {MOST_TIES_BY_ANSWERS}")
+    average = ZERO
+    for answers in all_answers(many):
+        kept = worth_kept(web, run_tree(web, tree, answers))
+        average = plus(average, times(chance_of(web, answers), (kept, 1)))
+    return average
