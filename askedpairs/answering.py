@@ -1,6 +1,6 @@
 """A tree's worth by all rows of answers."""
 
-from askedpairs.errors import TooMany
+from askedpairs.errors import refuse_above
 from askedpairs.fractions import ONE, ZERO, one_less, plus, times
 from askedpairs.runs import worth_kept
 from askedpairs.trees import run_tree
@@ -26,11 +26,9 @@ def all_answers(many):
 
 def by_answers(web, tree):
     """Tell the average, over all rows of answers, of what the tree keeps."""
-    many = len(web[1])
-    if many > MOST_TIES_BY_ANSWERS:
-        raise TooMany(f"{many} ties are more than {MOST_TIES_BY_ANSWERS}")
+    refuse_above(len(web[1]), MOST_TIES_BY_ANSWERS)
     average = ZERO
-    for answers in all_answers(many):
+    for answers in all_answers(len(web[1])):
         kept = worth_kept(web, run_tree(web, tree, answers))
         average = plus(average, times(chance_of(web, answers), (kept, 1)))
     return average

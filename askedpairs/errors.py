@@ -19,3 +19,9 @@ class NotTwoSided(PairsError):
 
 class NoText(PairsError):
     """What was to be read is no web's text."""
+
+
+def refuse_above(many, most):
+    """Refuse more ties than the question takes."""
+    if many > most:
+        raise TooMany(f"{many} ties are more than {most}")

@@ -44,6 +44,11 @@ def is_fraction(thing):
     return lowest(top, bottom) == thing
 
 
+def is_from_zero(thing):
+    """Tell whether it is a fraction from 0 on."""
+    return is_fraction(thing) and thing[0] >= 0
+
+
 def is_fraction_row(thing, many):
     """Tell whether it is a row of so many fractions."""
     return is_row_of(thing, many) and all([is_fraction(part) for part in thing])

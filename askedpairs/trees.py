@@ -62,3 +62,19 @@ def run_tree(web, tree, answers):
         run.append((tie, answers[tie]))
         at = yes if answers[tie] else no
     return tuple(run)
+
+
+def tree_by(web, asks):
+    """Tell the tree that asks at each stand the tie that asks has for it, and ends where it has none."""
+    nodes = []
+    ends = [(FIRST_STAND, END, 0)]
+    while len(ends) > 0:
+        stand, told_by, place = ends.pop()
+        if stand in asks:
+            tie, at = asks[stand], len(nodes)
+            nodes.append([tie, END, END])
+            if told_by != END:
+                nodes[told_by][place] = at
+            for link, truth in ((1, True), (2, False)):
+                ends.append((stand_behind(web, stand, tie, truth), at, link))
+    return tuple([tuple(node) for node in nodes])

@@ -70,13 +70,16 @@ def changed(thing):
                 yield thing[:at] + (other,) + thing[at + 1:]
 
 
-def look_over(test, checker, good, by_words):
-    """The checker tells just what the words tell, of anything, of the good things and of them changed."""
+def look_over(test, checker, good, by_words, step=1):
+    """The checker tells just what the words tell, of anything, of the good things and of them changed.
+
+    Where the changes are too many, each step-th of them is looked at.
+    """
     things = list(ANYTHING)
     for thing in good:
         test.assertIs(by_words(thing), True, thing)
         things.append(thing)
-        things.extend(changed(thing))
+        things.extend(itertools.islice(changed(thing), None, None, step))
     for thing in things:
         before = copy.deepcopy(thing)
         told = checker(thing)
@@ -247,6 +250,101 @@ def chance_by_words(web, answers):
     for at, truth in enumerate(answers):
         product *= Fraction(*web[1][at][2]) if truth else 1 - Fraction(*web[1][at][2])
     return product
+
+
+def behind_by_words(web, stand, tie, truth):
+    taken = set(stand[1]) | set(web[1][tie][:2] if truth else ())
+    return (tuple(sorted(set(stand[0]) | {tie})), tuple(sorted(taken)))
+
+
+def layers_by_words(web, order):
+    """Which stands come, one tie after another, with the chances of all ways that lead there."""
+    layers = [{((), ()): Fraction(1)}]
+    for tie in order:
+        layer = {}
+        for stand, chance in layers[-1].items():
+            yes = Fraction(*web[1][tie][2])
+            ways = [(stand, Fraction(1))]
+            if may_by_words(web, stand, tie):
+                ways = [(behind_by_words(web, stand, tie, True), yes),
+                        (behind_by_words(web, stand, tie, False), 1 - yes)]
+            for behind, share in ways:
+                layer[behind] = layer.get(behind, 0) + chance * share
+        layers.append({stand: chance for stand, chance in layer.items() if chance > 0})
+    return tuple(tuple((stand, pair_of(layer[stand])) for stand in sorted(layer)) for layer in layers)
+
+
+def average_by_words(web, kept_by):
+    """The average, over all rows of answers, of what is told of each."""
+    return sum((chance_by_words(web, answers) * kept_by(answers) for answers in rows_of_answers(web)), Fraction(0))
+
+
+def kept_by_words(web, run):
+    return sum(web[1][tie][3] for tie, truth in run if truth)
+
+
+def order_worth_by_words(web, order):
+    return average_by_words(web, lambda answers: kept_by_words(web, run_by_words(web, order, answers)))
+
+
+def all_orders(many):
+    return [order for size in range(many + 1) for order in itertools.permutations(range(many), size)]
+
+
+def told_ask_by_words(web, worths, stand, tie):
+    chance, worth = Fraction(*web[1][tie][2]), web[1][tie][3]
+    yes, no = (Fraction(*worths[behind_by_words(web, stand, tie, truth)]) for truth in (True, False))
+    return chance * (worth + yes) + (1 - chance) * no
+
+
+def table_by_words(web, thing):
+    if not is_row(thing):
+        return False
+    for row in thing:
+        if not (is_row(row) and len(row) == 3 and stand_by_words(web, row[0]) and fraction_by_words(row[1])
+                and row[1][0] >= 0 and is_int(row[2], -1, len(web[1]) - 1)):
+            return False
+    worths = {row[0]: row[1] for row in thing}
+    if [row[0] for row in thing] != sorted(worths) or ((), ()) not in worths:
+        return False
+    for stand, worth, ask in thing:
+        may = [tie for tie in range(len(web[1])) if may_by_words(web, stand, tie)]
+        for tie in may:
+            for truth in (True, False):
+                if behind_by_words(web, stand, tie, truth) not in worths:
+                    return False
+        told = {tie: told_ask_by_words(web, worths, stand, tie) for tie in may}
+        if any(told[tie] > Fraction(*worth) for tie in may):
+            return False
+        if not (ask in may and told[ask] == Fraction(*worth) or ask == -1 and worth == (0, 1)):
+            return False
+    return True
+
+
+def best_by_words(web, stand=((), ()), known=None):
+    """What the best plan from a stand on is worth, each ask tried with all that may follow."""
+    known = {} if known is None else known
+    if stand not in known:
+        best = Fraction(0)
+        for tie in range(len(web[1])):
+            if may_by_words(web, stand, tie):
+                chance, worth = Fraction(*web[1][tie][2]), web[1][tie][3]
+                yes = best_by_words(web, behind_by_words(web, stand, tie, True), known)
+                no = best_by_words(web, behind_by_words(web, stand, tie, False), known)
+                best = max(best, chance * (worth + yes) + (1 - chance) * no)
+        known[stand] = best
+    return known[stand]
+
+
+def pairings_by_words(web):
+    """All pairings, each a rising row of ties."""
+    told = []
+    for size in range(len(web[1]) + 1):
+        for ties in itertools.combinations(range(len(web[1])), size):
+            things = [thing for tie in ties for thing in web[1][tie][:2]]
+            if len(things) == len(set(things)):
+                told.append(ties)
+    return told
 
 
 def rows_of_answers(web):
