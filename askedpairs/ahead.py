@@ -2,7 +2,7 @@
 
 from askedpairs.answering import all_answers, chance_of
 from askedpairs.errors import refuse_above
-from askedpairs.fractions import ONE, ZERO, less, lowest, plus, times
+from askedpairs.fractions import ONE, ZERO, less, lowest, times, total
 from askedpairs.layers import order_worth
 from askedpairs.tables import best_worth
 
@@ -40,10 +40,10 @@ def loss(web):
     return lowest(worth[0] * best[1], worth[1] * best[0])
 
 
-def heaviest_worth(ties):
-    """Tell the worth of the heaviest pairing of a row of ties (one, other, chance, worth)."""
+def heaviest_worth(web, answers):
+    """Tell the worth of the heaviest pairing of the ties that say yes."""
     pairings = [((), 0)]
-    for one, other, chance, worth in ties:
+    for one, other, chance, worth in [tie for tie, truth in zip(web[1], answers) if truth]:
         pairings = pairings + [(taken + (one, other), kept + worth) for taken, kept in pairings
                                if one not in taken and other not in taken]
     return max([kept for taken, kept in pairings])
@@ -52,8 +52,5 @@ def heaviest_worth(ties):
 def seer(web):
     """Tell the average worth of the heaviest pairing of the ties that say yes."""
     refuse_above(len(web[1]), MOST_TIES_FOR_SEER)
-    average = ZERO
-    for answers in all_answers(len(web[1])):
-        kept = heaviest_worth([tie for tie, truth in zip(web[1], answers) if truth])
-        average = plus(average, times(chance_of(web, answers), (kept, 1)))
-    return average
+    return total([times(chance_of(web, answers), (heaviest_worth(web, answers), 1))
+                  for answers in all_answers(len(web[1]))])

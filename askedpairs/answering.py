@@ -1,7 +1,7 @@
 """A tree's worth by all rows of answers."""
 
 from askedpairs.errors import refuse_above
-from askedpairs.fractions import ONE, ZERO, one_less, plus, times
+from askedpairs.fractions import ONE, one_less, times, total
 from askedpairs.runs import worth_kept
 from askedpairs.trees import run_tree
 
@@ -27,8 +27,5 @@ def all_answers(many):
 def by_answers(web, tree):
     """Tell the average, over all rows of answers, of what the tree keeps."""
     refuse_above(len(web[1]), MOST_TIES_BY_ANSWERS)
-    average = ZERO
-    for answers in all_answers(len(web[1])):
-        kept = worth_kept(web, run_tree(web, tree, answers))
-        average = plus(average, times(chance_of(web, answers), (kept, 1)))
-    return average
+    return total([times(chance_of(web, answers), (worth_kept(web, run_tree(web, tree, answers)), 1))
+                  for answers in all_answers(len(web[1]))])

@@ -49,6 +49,11 @@ def is_from_zero(thing):
     return is_fraction(thing) and thing[0] >= 0
 
 
+def is_row_from_zero(thing, many):
+    """Tell whether it is a row of so many fractions from 0 on."""
+    return is_row_of(thing, many) and all([is_from_zero(part) for part in thing])
+
+
 def is_fraction_row(thing, many):
     """Tell whether it is a row of so many fractions."""
     return is_row_of(thing, many) and all([is_fraction(part) for part in thing])

@@ -38,3 +38,21 @@ def less(one, other):
 def one_less(chance):
     """Tell one less the chance."""
     return lowest(chance[1] - chance[0], chance[1])
+
+
+def total(row):
+    """Tell the sum of a row of fractions."""
+    amount = ZERO
+    for part in row:
+        amount = plus(amount, part)
+    return amount
+
+
+def greatest_first(row):
+    """Tell the places of a row of fractions, the greatest first, of alike ones the lesser place."""
+    common = 1
+    for part in row:
+        common = common * part[1]
+    # Over one common bottom the tops alone tell which is greater.
+    tops = [(-part[0] * (common // part[1]), at) for at, part in enumerate(row)]
+    return [at for top, at in sorted(tops)]

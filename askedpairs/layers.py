@@ -1,10 +1,11 @@
 """Orders of few ties: their layers, what they are worth, and their trees."""
 
 from askedpairs.errors import refuse_above
-from askedpairs.fractions import ZERO, plus, times
+from askedpairs.fractions import times, total
 from askedpairs.layerpaper import FIRST_LAYER, layer_behind
 from askedpairs.stands import FIRST_STAND, may_ask, stand_behind
 from askedpairs.trees import tree_by
+from askedpairs.worthpaper import gain_of
 
 MOST_TIES_OF_ORDER = 8
 
@@ -20,13 +21,8 @@ def layers_of(web, order):
 
 def order_worth(web, order):
     """Tell the order's worth, by its layers."""
-    worth = ZERO
-    for tie, layer in zip(order, layers_of(web, order)):
-        gain = times(web[1][tie][2], (web[1][tie][3], 1))
-        for stand, chance in layer:
-            if may_ask(web, stand, tie):
-                worth = plus(worth, times(chance, gain))
-    return worth
+    return total([times(chance, gain_of(web[1][tie])) for tie, layer in zip(order, layers_of(web, order))
+                  for stand, chance in layer if may_ask(web, stand, tie)])
 
 
 def asks_by_stand(web, order):

@@ -5,6 +5,11 @@ from askedpairs.fractions import ONE, ZERO, one_less, plus, times
 from askedpairs.trees import END
 
 
+def gain_of(tie):
+    """Tell the chance times the worth of a tie (one, other, chance, worth)."""
+    return times(tie[2], (tie[3], 1))
+
+
 def ask_worth(tie, yes, no):
     """Tell what an ask of a tie (one, other, chance, worth) is worth, by what yes and no are worth."""
     chance, worth = tie[2:]

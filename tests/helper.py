@@ -101,6 +101,11 @@ def look_over_run(test, web, run):
         taken |= set(web[1][tie][:2]) if truth else set()
 
 
+def put(row, at, part):
+    """The row with another part at one place."""
+    return row[:at] + (part,) + row[at + 1:]
+
+
 def same(one, other):
     """Alike in kind too: to Python True is 1."""
     return repr(one) == repr(other)
@@ -347,11 +352,61 @@ def pairings_by_words(web):
     return told
 
 
+def ties_of_thing(web, thing):
+    return [at for at, tie in enumerate(web[1]) if thing in (tie[0], tie[1])]
+
+
+def shares_by_words(web, thing):
+    if not (is_row(thing) and len(thing) == len(web[1]) and all(fraction_by_words(share) for share in thing)):
+        return False
+    shares = [Fraction(*share) for share in thing]
+    kept = [share * Fraction(*tie[2]) for share, tie in zip(shares, web[1])]
+    return (all(0 <= share <= 1 for share in shares) and sum(shares) <= web[3]
+            and all(sum(kept[tie] for tie in ties_of_thing(web, at)) <= 1
+                    and sum(shares[tie] for tie in ties_of_thing(web, at)) <= web[2][at] for at in range(web[0])))
+
+
+def shares_worth_by_words(web, shares):
+    return sum((Fraction(*share) * Fraction(*tie[2]) * tie[3] for share, tie in zip(shares, web[1])), Fraction(0))
+
+
+def prices_by_words(web, thing):
+    if not (is_row(thing) and len(thing) == 4):
+        return False
+    for row, many in ((thing[0], web[0]), (thing[1], web[0]), ((thing[2],), 1), (thing[3], len(web[1]))):
+        if not (is_row(row) and len(row) == many and all(fraction_by_words(price) for price in row)
+                and all(price[0] >= 0 for price in row)):
+            return False
+    keeping, bearing, once = ([Fraction(*price) for price in row] for row in (thing[0], thing[1], thing[3]))
+    for at, (one, other, chance, worth) in enumerate(web[1]):
+        paid = (Fraction(*chance) * keeping[one] + Fraction(*chance) * keeping[other] + bearing[one] + bearing[other]
+                + Fraction(*thing[2]) + once[at])
+        if paid < Fraction(*chance) * worth:
+            return False
+    return True
+
+
+def prices_worth_by_words(web, prices):
+    keeping, bearing, asking, once = prices
+    worth = Fraction(*asking) * web[3]
+    worth += sum(Fraction(*price) for price in keeping + once)
+    return worth + sum(Fraction(*price) * patience for price, patience in zip(bearing, web[2]))
+
+
+def pairing_by_words(web, thing):
+    return rising_by_words(thing, len(web[1])) and all(
+        not set(web[1][one][:2]) & set(web[1][other][:2]) for one, other in itertools.combinations(thing, 2))
+
+
 def rows_of_answers(web):
     return list(itertools.product((True, False), repeat=len(web[1])))
 
 
 CHANCES = [(0, 1), (1, 1), (1, 2), (1, 3), (2, 3), (3, 4), (1, 100), (99, 100), (37, 97)]
+
+
+def with_ties(web, many):
+    return (web[0], web[1][:many]) + web[2:]
 
 
 def random_web(rng, most_things=6, most_ties=6, most_patience=4):

@@ -7,16 +7,12 @@ from askedpairs.layers import order_worth
 from askedpairs.orders import is_order
 from askedpairs.tables import best_worth
 from tests.helper import (EMPTY, GREAT, WEB, WIDE, all_orders, average_by_words, best_by_words, order_worth_by_words,
-                          pair_of, pairings_by_words, random_webs, same)
+                          pair_of, pairings_by_words, random_webs, same, with_ties)
 
 # What is best to ask next hangs on the answers, so that no order does it.
 TORN = (5, ((0, 1, (3, 4), 2), (3, 4, (1, 3), 3), (0, 4, (1, 3), 3), (2, 3, (3, 4), 3), (3, 4, (1, 2), 2)),
         (2, 2, 3, 2, 3), 3)
 WORTHLESS = (4, ((0, 1, (1, 2), 0), (1, 2, (0, 1), 9), (2, 3, (1, 1), 0)), (3,) * 4, 9)
-
-
-def with_ties(web, many):
-    return (web[0], web[1][:many]) + web[2:]
 
 
 def seer_by_words(web):

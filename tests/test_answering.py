@@ -10,11 +10,7 @@ from askedpairs.runs import answers_of, worth_kept
 from askedpairs.trees import run_tree
 from askedpairs.worths import worth_of
 from tests.helper import (EMPTY, GREAT, TREE, WEB, WIDE, chance_by_words, grow_tree, pair_of, random_webs,
-                          rows_of_answers, same, tree_run_by_words, webs_and_trees)
-
-
-def with_ties(web, many):
-    return (web[0], web[1][:many]) + web[2:]
+                          rows_of_answers, same, tree_run_by_words, webs_and_trees, with_ties)
 
 
 class ChanceOf(unittest.TestCase):

@@ -2,7 +2,7 @@ import random
 import unittest
 from fractions import Fraction
 
-from askedpairs.fractions import less, lowest, plus, times
+from askedpairs.fractions import greatest_first, less, lowest, plus, times, total
 from tests.helper import BIG, pair_of, same
 
 NUMBERS = [0, 1, -1, 2, -2, 3, 6, -6, 12, 35, 100, 10 ** 49, 10 ** 50 + 1, -(10 ** 50), 6 * 10 ** 49, BIG, -BIG,
@@ -62,6 +62,19 @@ class Fractions(unittest.TestCase):
         self.assertIs(less((1, 1), just), False)
         self.assertIs(less((-1, 1), (-just[0], just[1])), True)
         self.assertIs(less((-1, 2), (-1, 3)), True)
+
+    def test_totals(self):
+        self.assertEqual(total(()), (0, 1))
+        self.assertEqual(total([(1, 2), (1, 3), (-1, 6)]), (2, 3))
+        for many in range(0, len(self.fractions), 7):
+            row = self.fractions[:many]
+            self.assertTrue(same(total(row), pair_of(sum(Fraction(*part) for part in row))))
+
+    def test_greatest_first(self):
+        self.assertEqual(greatest_first([]), [])
+        self.assertEqual(greatest_first([(1, 3), (-1, 2), (1, 2), (0, 1), (1, 3), (2, 1)]), [5, 2, 0, 4, 3, 1])
+        row = self.fractions + self.fractions[::-2]
+        self.assertEqual(greatest_first(row), sorted(range(len(row)), key=lambda at: (-Fraction(*row[at]), at)))
 
 
 if __name__ == "__main__":

@@ -117,6 +117,14 @@ class Language(unittest.TestCase):
                     defined = set(top_names(ast.Module(drawn, [])))
                     self.assertLessEqual({alias.name for alias in node.names}, defined, path)
 
+    def test_no_two_files_draw_from_one_another(self):
+        draws = {path.stem: {node.module.split(".")[1] for node in tree.body if isinstance(node, ast.ImportFrom)}
+                 for path, tree in self.trees.items()}
+        while draws:
+            ready = [name for name in draws if not draws[name] & set(draws)]
+            self.assertTrue(ready, draws)
+            draws = {name: drawn for name, drawn in draws.items() if name not in ready}
+
     def test_names(self):
         for path, tree in self.trees.items():
             drawn = set(alias.name for node in tree.body if isinstance(node, ast.ImportFrom) for alias in node.names)

@@ -12,8 +12,8 @@ from askedpairs.tables import best_tree, best_worth, table_of
 from askedpairs.trees import is_tree, run_tree, stands_of
 from askedpairs.worths import worth_of
 from tests.helper import (EMPTY, GREAT, WEB, WIDE, all_orders, behind_by_words, best_by_words, look_over,
-                          look_over_run, may_by_words, pair_of, random_webs, rows_of_answers, same, stand_by_words,
-                          table_by_words, told_ask_by_words, webs_and_trees)
+                          look_over_run, may_by_words, pair_of, put, random_webs, rows_of_answers, same,
+                          stand_by_words, table_by_words, told_ask_by_words, webs_and_trees)
 
 FIRST = ((), ())
 ONE_TIE = (2, ((0, 1, (1, 2), 3),), (1, 1), 1)
@@ -26,10 +26,6 @@ ASKLESS = (3, ((0, 1, (1, 2), 3), (1, 2, (1, 2), 4)), (2, 2, 2), 0)
 IMPATIENT = (3, ((0, 1, (1, 2), 3), (1, 2, (1, 2), 4)), (0, 0, 0), 9)
 SMALL = [EMPTY, ONE_TIE, FEW, APART, SURE, WORTHLESS, ASKLESS, IMPATIENT]
 SEVEN = (WIDE[0], WIDE[1][:7]) + WIDE[2:]
-
-
-def put(table, at, row):
-    return table[:at] + (row,) + table[at + 1:]
 
 
 def worths_in(table):
