@@ -34,6 +34,13 @@ def is_rising_row(thing, many):
     return True
 
 
+def is_unlike_row(thing, many):
+    """Tell whether it is a row of unlike numbers from 0 to many less 1, in whatever order."""
+    if not isinstance(thing, tuple) or not all([is_number_within(part, 0, many - 1) for part in thing]):
+        return False
+    return len(set(thing)) == len(thing)
+
+
 def is_fraction(thing):
     """Tell whether it is a fraction, in lowest terms."""
     if not is_row_of(thing, 2):

@@ -398,6 +398,62 @@ def pairing_by_words(web, thing):
         not set(web[1][one][:2]) & set(web[1][other][:2]) for one, other in itertools.combinations(thing, 2))
 
 
+def charges_by_words(web, kept, other, thing):
+    if not is_row(thing) or len(thing) != len(other):
+        return False
+    for charge, tie in zip(thing, other):
+        if not is_int(charge, 0, 10 ** 9) or charge not in kept:
+            return False
+        if not set(web[1][charge][:2]) & set(web[1][tie][:2]) or web[1][charge][3] < web[1][tie][3]:
+            return False
+    return True
+
+
+def all_charges(web, kept, other):
+    return [row for row in itertools.product(kept, repeat=len(other)) if charges_by_words(web, kept, other, row)]
+
+
+def sides_by_words(web, thing):
+    return (is_row(thing) and len(thing) == web[0] and all(is_int(side, 0, 1) for side in thing)
+            and all(sorted((thing[tie[0]], thing[tie[1]])) == [0, 1] for tie in web[1]))
+
+
+def ring_by_words(web, thing):
+    if not (is_row(thing) and all(is_int(part, 0, web[0] - 1) for part in thing) and len(thing) == len(set(thing))
+            and len(thing) in (3, 5, 7, 9, 11)):
+        return False
+    tied = {frozenset(tie[:2]) for tie in web[1]}
+    return all({thing[at - 1], thing[at]} in tied for at in range(len(thing)))
+
+
+def has_sides(web):
+    return any(sides_by_words(web, row) for row in itertools.product((0, 1), repeat=web[0]))
+
+
+def heaviest_by_words(web, thing):
+    if not (is_row(thing) and len(thing) == 2 and pairing_by_words(web, thing[0]) and is_row(thing[1])
+            and len(thing[1]) == web[0] and all(type(price) is int and price >= 0 for price in thing[1])):
+        return False
+    return (all(thing[1][tie[0]] + thing[1][tie[1]] >= tie[3] for tie in web[1])
+            and sum(thing[1]) == worth_by_ties(web, thing[0]))
+
+
+def worth_by_ties(web, ties):
+    return sum(web[1][tie][3] for tie in ties)
+
+
+def heaviest_worth_by_words(web, ties=None):
+    """The worth of the heaviest pairing of all ties, or of some of them: each tie taken or left."""
+    ties = range(len(web[1])) if ties is None else ties
+    worths = {frozenset(): 0}
+    for tie in ties:
+        for taken, worth in list(worths.items()):
+            if not taken & set(web[1][tie][:2]):
+                both = taken | set(web[1][tie][:2])
+                worths[both] = max(worths.get(both, 0), worth + web[1][tie][3])
+    return max(worths.values())
+
+
 def rows_of_answers(web):
     return list(itertools.product((True, False), repeat=len(web[1])))
 
@@ -422,6 +478,33 @@ def random_web(rng, most_things=6, most_ties=6, most_patience=4):
 def random_webs(seed, many, most_things=6, most_ties=6, most_patience=4):
     rng = random.Random(seed)
     return [random_web(rng, most_things, most_ties, most_patience) for at in range(many)]
+
+
+def two_sided_web(rng, most_things=12, most_ties=16, worths=(0, 1, 2, 5, 10, 999, 1000)):
+    """A web in which each tie has one thing of either side, the sides drawn."""
+    things = rng.randint(2, most_things)
+    sides = [rng.randrange(2) for at in range(things)]
+    pairs = [pair for pair in itertools.combinations(range(things), 2) if sides[pair[0]] != sides[pair[1]]]
+    many = rng.randint(0, most_ties) if pairs else 0
+    ties = tuple(rng.choice(pairs) + (rng.choice(CHANCES), rng.choice(worths)) for at in range(many))
+    return (things, ties, tuple(rng.randint(0, 4) for at in range(things)), rng.randint(0, 9))
+
+
+def two_sided_webs(seed, many, most_things=12, most_ties=16, worths=(0, 1, 2, 5, 10, 999, 1000)):
+    rng = random.Random(seed)
+    return [two_sided_web(rng, most_things, most_ties, worths) for at in range(many)]
+
+
+def enough_webs(webs):
+    """The same webs, patience and asks being just enough for all ties."""
+    return [(web[0], web[1], tuple(len(ties_of_thing(web, thing)) for thing in range(web[0])), len(web[1]))
+            for web in webs]
+
+
+def ties_between(pairs, worths=None, chance=(1, 2)):
+    """A row of ties of these things, of one chance."""
+    worths = [1] * len(pairs) if worths is None else worths
+    return tuple((one, other, chance, worth) for (one, other), worth in zip(pairs, worths))
 
 
 def grow_tree(rng, web, most):

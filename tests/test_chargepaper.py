@@ -3,27 +3,12 @@ import unittest
 
 from askedpairs.chargepaper import charges_hold, is_pairing
 from askedpairs.runs import worth_kept
-from tests.helper import (EMPTY, GREAT, WEB, WIDE, is_int, is_row, look_over, pairing_by_words, pairings_by_words,
-                          random_webs)
+from tests.helper import (EMPTY, GREAT, WEB, WIDE, all_charges, charges_by_words, look_over, pairing_by_words,
+                          pairings_by_words, random_webs)
 
 # A path of five ties; the middle one is worth as much as the second, more by one than the fourth.
 PATH = (6, ((0, 1, (1, 2), 3), (1, 2, (0, 1), 7), (2, 3, (1, 1), 7), (3, 4, (1, 2), 6), (4, 5, (1, 3), 0)),
         (0,) * 6, 0)
-
-
-def charges_by_words(web, kept, other, thing):
-    if not is_row(thing) or len(thing) != len(other):
-        return False
-    for charge, tie in zip(thing, other):
-        if not is_int(charge, 0, 10 ** 9) or charge not in kept:
-            return False
-        if not set(web[1][charge][:2]) & set(web[1][tie][:2]) or web[1][charge][3] < web[1][tie][3]:
-            return False
-    return True
-
-
-def all_charges(web, kept, other):
-    return [row for row in itertools.product(kept, repeat=len(other)) if charges_by_words(web, kept, other, row)]
 
 
 class IsPairing(unittest.TestCase):
