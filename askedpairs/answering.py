@@ -8,12 +8,17 @@ from askedpairs.trees import run_tree
 MOST_TIES_BY_ANSWERS = 10
 
 
+def chance_by(chances, answers):
+    """Tell the chance of a row of answers by the chance of each yes."""
+    product = ONE
+    for chance, truth in zip(chances, answers):
+        product = times(product, chance if truth else one_less(chance))
+    return product
+
+
 def chance_of(web, answers):
     """Tell the chance of a row of answers."""
-    product = ONE
-    for tie, truth in zip(web[1], answers):
-        product = times(product, tie[2] if truth else one_less(tie[2]))
-    return product
+    return chance_by([tie[2] for tie in web[1]], answers)
 
 
 def all_answers(many):

@@ -22,6 +22,6 @@ class NoText(PairsError):
 
 
 def refuse_above(many, most):
-    """Refuse more ties than the question takes."""
+    """Refuse more ties, or groups, than the question takes."""
     if many > most:
-        raise TooMany(f"{many} ties are more than {most}")
+        raise TooMany(f"{many} are more than {most}")

@@ -1,10 +1,13 @@
-"""Tables: rows (stand, worth, ask), looked over row by row."""
+"""Tables: rows (stand, worth, ask), looked over row by row.
+
+What may come of an ask is told by its ways: a row of (share, worth kept, stand
+behind), one for each answer that may come.
+"""
 
 from askedpairs.forms import is_from_zero, is_number, is_row_of
-from askedpairs.fractions import ZERO, less
+from askedpairs.fractions import ZERO, less, one_less, plus, times, total
 from askedpairs.stands import FIRST_STAND, is_stand, may_ask, stand_behind
 from askedpairs.trees import END
-from askedpairs.worthpaper import ask_worth
 
 
 def asks_at(web, stand):
@@ -12,44 +15,37 @@ def asks_at(web, stand):
     return [tie for tie in range(len(web[1])) if may_ask(web, stand, tie)]
 
 
-def both_behind(web, stand, tie):
-    """Tell the stands behind yes and behind no."""
-    return [stand_behind(web, stand, tie, truth) for truth in (True, False)]
+def both_ways(web, stand, tie):
+    """Tell the ways behind yes and behind no, whatever the chance."""
+    chance, worth = web[1][tie][2:]
+    return ((chance, worth, stand_behind(web, stand, tie, True)),
+            (one_less(chance), 0, stand_behind(web, stand, tie, False)))
 
 
-def told_worth(web, worths, stand, tie):
+def ways_at(web, stand):
+    """Tell by each tie that may be asked at the stand its ways."""
+    return {tie: both_ways(web, stand, tie) for tie in asks_at(web, stand)}
+
+
+def ways_worth(worths, ways):
     """Tell what an ask is worth by the worths that are told of the stands behind it."""
-    yes, no = both_behind(web, stand, tie)
-    return ask_worth(web[1][tie], worths[yes], worths[no])
+    return total([times(share, plus((kept, 1), worths[behind])) for share, kept, behind in ways])
 
 
-def is_table_row(web, thing):
-    """Tell whether it is (stand, worth, ask), the ask any number."""
-    if not is_row_of(thing, 3):
-        return False
-    stand, worth, ask = thing
-    return is_stand(web, stand) and is_from_zero(worth) and is_number(ask)
+def is_table_row(thing):
+    """Tell whether it is (stand, worth, ask), the stand anything, the ask any number."""
+    return is_row_of(thing, 3) and is_from_zero(thing[1]) and is_number(thing[2])
 
 
-def is_table_form(web, thing):
-    """Tell of anything whether it is a row of table rows, their stands rising."""
-    if not isinstance(thing, tuple) or not all([is_table_row(web, row) for row in thing]):
-        return False
-    return all([row[0] < later[0] for row, later in zip(thing, thing[1:])])
+def is_table_form(thing):
+    """Tell of anything whether it is a row of table rows, whatever their stands."""
+    return isinstance(thing, tuple) and all([is_table_row(row) for row in thing])
 
 
-def is_closed(web, worths):
-    """Tell whether the first stand is there, and both stands behind each ask."""
-    if FIRST_STAND not in worths:
-        return False
-    return all([behind in worths for stand in worths for tie in asks_at(web, stand)
-                for behind in both_behind(web, stand, tie)])
-
-
-def is_row_right(web, worths, row):
+def is_row_right(worths, ways, row):
     """Tell whether no ask is worth more than the row tells, and the told one just that."""
     stand, worth, ask = row
-    told = {tie: told_worth(web, worths, stand, tie) for tie in asks_at(web, stand)}
+    told = {tie: ways_worth(worths, ways[tie]) for tie in ways}
     if any([less(worth, told[tie]) for tie in told]):
         return False
     if ask == END:
@@ -57,9 +53,21 @@ def is_row_right(web, worths, row):
     return ask in told and told[ask] == worth
 
 
+def is_table_by(first, table, ways):
+    """Tell whether the rows, whose stands are right, are a table from the first stand on.
+
+    Of each stand of the table ways has the asks that may be made there.
+    """
+    worths = {stand: worth for stand, worth, ask in table}
+    if first not in worths or not all([row[0] < later[0] for row, later in zip(table, table[1:])]):
+        return False
+    if not all([behind in worths for stand in ways for tie in ways[stand] for share, kept, behind in ways[stand][tie]]):
+        return False
+    return all([is_row_right(worths, ways[row[0]], row) for row in table])
+
+
 def table_holds(web, thing):
     """Tell of anything whether it is a table of the web."""
-    if not is_table_form(web, thing):
+    if not is_table_form(thing) or not all([is_stand(web, row[0]) for row in thing]):
         return False
-    worths = {stand: worth for stand, worth, ask in thing}
-    return is_closed(web, worths) and all([is_row_right(web, worths, row) for row in thing])
+    return is_table_by(FIRST_STAND, thing, {row[0]: ways_at(web, row[0]) for row in thing})

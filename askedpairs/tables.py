@@ -3,45 +3,51 @@
 from askedpairs.errors import refuse_above
 from askedpairs.fractions import ZERO, less
 from askedpairs.stands import FIRST_STAND
-from askedpairs.tablepaper import asks_at, both_behind, told_worth
+from askedpairs.tablepaper import ways_at, ways_worth
 from askedpairs.trees import END, tree_by
 
 MOST_TIES_OF_TABLE = 7
 
 
-def stands_by_asks(web):
-    """Tell all stands that may come, whatever the chances: a row for each number of asks made."""
-    rows = []
-    stands = [FIRST_STAND]
+def layers_by_asks(first, ways_here):
+    """Tell all stands that may come, each with the ways of its asks: a dict for each number of asks made."""
+    layers = []
+    stands = [first]
     while len(stands) > 0:
-        rows.append(stands)
-        stands = sorted(set([behind for stand in stands for tie in asks_at(web, stand)
-                             for behind in both_behind(web, stand, tie)]))
-    return rows
+        layer = {stand: ways_here(stand) for stand in stands}
+        layers.append(layer)
+        stands = sorted(set([behind for stand in layer for tie in layer[stand]
+                             for share, kept, behind in layer[stand][tie]]))
+    return layers
 
 
-def best_ask(web, worths, stand):
-    """Tell (worth, ask) of a stand by the worths of the stands behind it."""
+def best_ask(worths, ways):
+    """Tell (worth, ask) of a stand by the ways of its asks and the worths of the stands behind them."""
     worth, ask = ZERO, END
-    for tie in asks_at(web, stand):
-        told = told_worth(web, worths, stand, tie)
+    for tie in ways:
+        told = ways_worth(worths, ways[tie])
         if less(worth, told):
             worth, ask = told, tie
     return (worth, ask)
 
 
-def table_of(web):
-    """Tell a table of the web."""
-    refuse_above(len(web[1]), MOST_TIES_OF_TABLE)
+def table_by(first, ways_here):
+    """Tell a table from the first stand on; ways_here tells of a stand the ways of the asks that may be made."""
     worths = {}
     table = []
     # Behind an ask one more is made, so from the most asks on all that is needed is known.
-    for stands in reversed(stands_by_asks(web)):
-        for stand in stands:
-            worth, ask = best_ask(web, worths, stand)
+    for layer in reversed(layers_by_asks(first, ways_here)):
+        for stand in layer:
+            worth, ask = best_ask(worths, layer[stand])
             worths[stand] = worth
             table.append((stand, worth, ask))
     return tuple(sorted(table))
+
+
+def table_of(web):
+    """Tell a table of the web."""
+    refuse_above(len(web[1]), MOST_TIES_OF_TABLE)
+    return table_by(FIRST_STAND, lambda stand: ways_at(web, stand))
 
 
 def best_worth(web):

@@ -4,6 +4,7 @@ import copy
 import itertools
 import math
 import random
+import re
 from fractions import Fraction
 
 BIG = 10 ** 59 + 7
@@ -454,6 +455,151 @@ def heaviest_worth_by_words(web, ties=None):
     return max(worths.values())
 
 
+def groups_by_words(web, thing):
+    if not (is_row(thing) and all(rising_by_words(group, len(web[1])) and group for group in thing)):
+        return False
+    return (sorted(tie for group in thing for tie in group) == list(range(len(web[1])))
+            and all(len({web[1][tie][2] for tie in group}) == 1 for group in thing)
+            and all(one[0] < other[0] for one, other in zip(thing, thing[1:])))
+
+
+def together_chance_by_words(web, groups, answers):
+    product = Fraction(1)
+    for group, truth in zip(groups, answers):
+        chance = Fraction(*web[1][group[-1]][2])
+        product *= chance if truth else 1 - chance
+    return product
+
+
+def ties_say(web, groups, answers):
+    """What each tie says, where each of its group says so."""
+    return tuple(answers[at] for tie in range(len(web[1])) for at in range(len(groups)) if tie in groups[at])
+
+
+def together_worth_by_words(web, groups, tree):
+    return sum((together_chance_by_words(web, groups, answers)
+                * kept_by_words(web, tree_run_by_words(tree, ties_say(web, groups, answers)))
+                for answers in itertools.product((True, False), repeat=len(groups))), Fraction(0))
+
+
+def wide_by_words(web, groups, thing):
+    if not (is_row(thing) and len(thing) == 3 and stand_by_words(web, thing[:2]) and is_row(thing[2])):
+        return False
+    for said in thing[2]:
+        if not (is_row(said) and len(said) == 2 and type(said[0]) is int and type(said[1]) is bool):
+            return False
+    touched = {at for at, group in enumerate(groups) if set(group) & set(thing[0])}
+    return [said[0] for said in thing[2]] == sorted(touched)
+
+
+def wide_behind_by_words(web, groups, stand, tie):
+    """The wide stands that may come behind an ask, by the truth that leads there."""
+    group = [at for at in range(len(groups)) if tie in groups[at]][0]
+    said = [truth for at, truth in stand[2] if at == group]
+    return {truth: behind_by_words(web, stand[:2], tie, truth) + (tuple(sorted(set(stand[2]) | {(group, truth)})),)
+            for truth in said or (True, False)}
+
+
+def told_wide_by_words(web, groups, worths, stand, tie):
+    behind = {truth: Fraction(*worths[wide]) for truth, wide in wide_behind_by_words(web, groups, stand, tie).items()}
+    chance, worth = Fraction(*web[1][tie][2]), web[1][tie][3]
+    if len(behind) == 1:
+        return worth + behind[True] if True in behind else behind[False]
+    return chance * (worth + behind[True]) + (1 - chance) * behind[False]
+
+
+def together_by_words(web, groups, thing):
+    if not is_row(thing):
+        return False
+    for row in thing:
+        if not (is_row(row) and len(row) == 3 and wide_by_words(web, groups, row[0]) and fraction_by_words(row[1])
+                and row[1][0] >= 0 and is_int(row[2], -1, len(web[1]) - 1)):
+            return False
+    worths = {row[0]: row[1] for row in thing}
+    if [row[0] for row in thing] != sorted(worths) or ((), (), ()) not in worths:
+        return False
+    for stand, worth, ask in thing:
+        may = [tie for tie in range(len(web[1])) if may_by_words(web, stand[:2], tie)]
+        for tie in may:
+            if not set(wide_behind_by_words(web, groups, stand, tie).values()) <= set(worths):
+                return False
+        told = {tie: told_wide_by_words(web, groups, worths, stand, tie) for tie in may}
+        if any(told[tie] > Fraction(*worth) for tie in may):
+            return False
+        if not (ask in may and told[ask] == Fraction(*worth) or ask == -1 and worth == (0, 1)):
+            return False
+    return True
+
+
+def best_together_by_words(web, groups):
+    """What the best plan is worth, by the rows of groups' answers that may still be, each with its chance."""
+    chances = {ties_say(web, groups, answers): together_chance_by_words(web, groups, answers)
+               for answers in itertools.product((True, False), repeat=len(groups))}
+    known = {}
+
+    def best(stand, rows):
+        if not rows:
+            return Fraction(0)
+        if (stand, rows) not in known:
+            worth = Fraction(0)
+            for tie in range(len(web[1])):
+                if may_by_words(web, stand, tie):
+                    yes, no = (tuple(row for row in rows if row[tie] is truth) for truth in (True, False))
+                    kept = web[1][tie][3] * sum((chances[row] for row in yes), Fraction(0))
+                    worth = max(worth, kept + best(behind_by_words(web, stand, tie, True), yes)
+                                + best(behind_by_words(web, stand, tie, False), no))
+            known[stand, rows] = worth
+        return known[stand, rows]
+
+    return best(((), ()), tuple(chances))
+
+
+def single_groups(web):
+    return tuple((tie,) for tie in range(len(web[1])))
+
+
+def random_groups(rng, web):
+    """Groups drawn anywhere among the ties of one chance."""
+    groups = {}
+    for at, tie in enumerate(web[1]):
+        groups.setdefault((tie[2], rng.randrange(3)), []).append(at)
+    return tuple(sorted(tuple(group) for group in groups.values()))
+
+
+def webs_and_groups(seed, many, most_things=6, most_ties=6, most_patience=4, chances=((1, 2), (1, 3), (3, 4))):
+    rng = random.Random(seed)
+    told = []
+    for web in random_webs(seed, many, most_things, most_ties, most_patience):
+        web = put(web, 1, tuple(tie[:2] + (rng.choice(chances), tie[3]) for tie in web[1]))
+        told.append((web, random_groups(rng, web)))
+    return told
+
+
+def text_by_words(web):
+    return (f"things {web[0]} asks {web[3]}\n" + "".join(f"thing {part}\n" for part in web[2])
+            + "".join(f"tie {tie[0]} {tie[1]} {tie[2][0]}/{tie[2][1]} {tie[3]}\n" for tie in web[1]))
+
+
+def read_by_words(thing):
+    """The web that a text tells, or None, if it tells none."""
+    number = "(0|[1-9][0-9]*)"
+    if type(thing) is not str or not thing.endswith("\n"):
+        return None
+    head, *lines = thing[:-1].split("\n")
+    first = re.fullmatch(f"things {number} asks {number}", head)
+    if not first:
+        return None
+    things, asks = map(int, first.groups())
+    patience = [re.fullmatch(f"thing {number}", line) for line in lines[:things]]
+    ties = [re.fullmatch(f"tie {number} {number} {number}/{number} {number}", line) for line in lines[things:]]
+    if not all(patience) or not all(ties):
+        return None
+    numbers = [tuple(map(int, tie.groups())) for tie in ties]
+    web = (things, tuple((one, other, (top, bottom), worth) for one, other, top, bottom, worth in numbers),
+           tuple(int(part[1]) for part in patience), asks)
+    return web if web_by_words(web) else None
+
+
 def rows_of_answers(web):
     return list(itertools.product((True, False), repeat=len(web[1])))
 
@@ -493,6 +639,18 @@ def two_sided_web(rng, most_things=12, most_ties=16, worths=(0, 1, 2, 5, 10, 999
 def two_sided_webs(seed, many, most_things=12, most_ties=16, worths=(0, 1, 2, 5, 10, 999, 1000)):
     rng = random.Random(seed)
     return [two_sided_web(rng, most_things, most_ties, worths) for at in range(many)]
+
+
+def raised_webs(web):
+    """The web with one chance, worth, patience, or its asks raised."""
+    things, ties, patience, asks = web
+    for at, (one, other, chance, worth) in enumerate(ties):
+        higher = pair_of(min(Fraction(1), Fraction(*chance) + Fraction(1, 7)))
+        yield (things, put(ties, at, (one, other, higher, worth)), patience, asks)
+        yield (things, put(ties, at, (one, other, chance, worth + 3)), patience, asks)
+    for at in range(things):
+        yield (things, ties, put(patience, at, patience[at] + 1), asks)
+    yield (things, ties, patience, asks + 1)
 
 
 def enough_webs(webs):

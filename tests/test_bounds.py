@@ -11,24 +11,12 @@ from askedpairs.pricepaper import prices_hold, prices_worth, shares_hold, shares
 from askedpairs.tables import best_worth
 from askedpairs.worths import asked_shares, worth_of
 from tests.helper import (EMPTY, GREAT, WEB, WIDE, fraction_by_words, grow_tree, is_row, look_over_run, pair_of,
-                          prices_by_words, prices_worth_by_words, put, random_webs, rows_of_answers, same,
+                          prices_by_words, prices_worth_by_words, raised_webs, random_webs, rows_of_answers, same,
                           shares_by_words, shares_worth_by_words, with_ties)
 
 NIL = (0, 1)
 HALF = (1, 2)
 ONE = (1, 1)
-
-
-def raised_webs(web):
-    """The web with one chance, worth, patience, or its asks raised."""
-    things, ties, patience, asks = web
-    for at, (one, other, chance, worth) in enumerate(ties):
-        higher = pair_of(min(Fraction(1), Fraction(*chance) + Fraction(1, 7)))
-        yield (things, put(ties, at, (one, other, higher, worth)), patience, asks)
-        yield (things, put(ties, at, (one, other, chance, worth + 3)), patience, asks)
-    for at in range(things):
-        yield (things, ties, put(patience, at, patience[at] + 1), asks)
-    yield (things, ties, patience, asks + 1)
 
 
 class Bound(unittest.TestCase):

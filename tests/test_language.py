@@ -19,7 +19,9 @@ JoinedStr FormattedValue Starred And Or Not USub Add Sub Mult FloorDiv Mod Pow L
 Eq NotEq Lt LtE Gt GtE Is IsNot In NotIn""".split())
 METHODS = set("""append clear copy count endswith extend find get index insert isalnum isalpha isdigit islower isspace
 isupper items join keys ljust lower lstrip partition pop remove replace reverse rfind rjust rpartition rsplit rstrip
-setdefault split splitlines startswith strip update upper values zfill bit_length add discard sort""".split())
+setdefault split splitlines startswith strip update upper values zfill bit_length add discard sort
+title capitalize swapcase casefold center expandtabs removeprefix removesuffix rindex isascii isdecimal isnumeric
+istitle isidentifier isprintable""".split())
 WORDS = re.compile(r"\b(type|typing|typing_extensions|enum|Enum|IntEnum|StrEnum|Flag|IntFlag|Generic|Protocol|ABC|"
                    r"ABCMeta|namedtuple|NamedTuple|TypedDict|TYPE_CHECKING|abstractmethod)\b"
                    r"|dataclass|overload|contextmanager")
