@@ -143,6 +143,35 @@ class Language(unittest.TestCase):
                 if isinstance(node, ast.Name):
                     self.assertNotIn(node.id, NOWHERE, path)
 
+    def test_classes_and_errors(self):
+        classes = {node.name for path, node in self.walk() if isinstance(node, ast.ClassDef)}
+        methods, values = set(), set()
+        for path, node in self.walk():
+            if isinstance(node, ast.ClassDef):
+                self.assertEqual((node.decorator_list, node.keywords), ([], []))
+                self.assertLessEqual(len(node.bases), 1)
+                for row in node.body:
+                    self.assertIsInstance(row, (ast.Expr, ast.FunctionDef), path)
+                names = [row.name for row in node.body if isinstance(row, ast.FunctionDef)]
+                self.assertEqual(len(names), len(set(names)))
+                methods |= set(names)
+            if isinstance(node, ast.Attribute) and isinstance(node.ctx, ast.Store):
+                self.assertIsInstance(node.value, ast.Name)
+                values.add(node.attr)
+            if isinstance(node, ast.Raise):
+                self.assertIn(node.exc.func.id, classes, path)
+            if isinstance(node, ast.ExceptHandler):
+                self.assertIn(node.type.id, classes, path)
+        self.assertFalse(methods & values)
+        for path, node in self.walk():
+            if isinstance(node, ast.Attribute):
+                self.assertIn(node.attr, methods | values | METHODS, path)
+                self.assertNotIn(node.attr, NOWHERE, path)
+            if isinstance(node, ast.For):
+                self.assertNotIsInstance(node.iter, ast.Set)
+        python = set(dir(str)) | set(dir(int)) | set(dir(list)) | set(dir(dict)) | set(dir(set)) | set(dir(bytes))
+        self.assertLessEqual((methods | values) & python, {"__init__"})
+
     def test_methods_of_pythons_own(self):
         own = set(node.name for path, node in self.walk() if isinstance(node, ast.FunctionDef))
         for path, node in self.walk():
